@@ -1,0 +1,1 @@
+"""Pupilpairs: lines of pupils, moved by calls."""

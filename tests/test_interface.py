@@ -1,0 +1,68 @@
+"""The interface: its names, arguments and methods stand where the document lists them."""
+
+import importlib
+import inspect
+import unittest
+
+FUNCTIONS = {
+    "kinds": ["is_integer(thing)", "is_files(thing)", "is_rows(thing)", "is_index(thing, many)"],
+    "calls": ["is_call(files, thing)", "is_straight(call)", "size_of(call)", "turned(call)", "mirrored(call, files)",
+              "moved_by(call, files, rows, place)", "files_of(call)"],
+    "moves": ["is_place(files, rows, thing)", "number_of(files, place)", "place_of(files, number)",
+              "moved(script, rows, place)", "came_from(script, rows, place)", "passed(script, rows, place)"],
+    "lines": ["moves_of(script, rows)"],
+    "stretches": ["stretches(script, rows)", "are_stretches(script, rows, thing)", "stretch_at(script, rows, place)",
+                  "led_by(stretch, row)", "joined(first, second)"],
+    "pieces": ["early(script)", "pieces(script)", "are_pieces(script, thing)", "is_told(script, rows, thing)",
+               "told_by(pieces, rows)", "put(pieces, rows, place)"],
+}
+CLASSES = {
+    "scripts": ("Script(files, calls)",
+                ["__eq__(self, other)", "__len__(self)", "__iter__(self)", "__mul__(self, other)", "__invert__(self)",
+                 "times(self, k)", "calls(self)", "call_at(self, index)", "is_straight(self)", "without(self, index)",
+                 "with_call(self, index, call)", "mirrored(self)"],
+                ["files", "size"]),
+    "lines": ("Line(files, rows)",
+              ["__eq__(self, other)", "__len__(self)", "__iter__(self)", "order(self)", "leaders(self)",
+               "at(self, place)", "place_of(self, pupil)", "row_of(self, pupil)", "is_home(self)", "do(self, thing)",
+               "go(self, script, rounds)", "copied(self)"],
+              ["files", "rows"]),
+}
+
+
+def module(name):
+    """The file of the package with a name."""
+    return importlib.import_module("pupilpairs." + name)
+
+
+class InterfaceTest(unittest.TestCase):
+    def check(self, owner, signature):
+        """Asserts that a function with a signature is defined in its owner."""
+        name = signature.partition("(")[0]
+        function = vars(owner)[name]
+        self.assertTrue(inspect.isfunction(function), signature)
+        self.assertEqual(name + str(inspect.signature(function)), signature)
+        return function
+
+    def test_functions(self):
+        for name, signatures in FUNCTIONS.items():
+            for signature in signatures:
+                self.assertEqual(self.check(module(name), signature).__module__, "pupilpairs." + name)
+
+    def test_classes(self):
+        for name, (signature, methods, properties) in CLASSES.items():
+            made = vars(module(name))[signature.partition("(")[0]]
+            self.assertEqual(made.__name__ + str(inspect.signature(made)), signature)
+            self.assertEqual(made.__module__, "pupilpairs." + name)
+            for method in methods:
+                self.check(made, method)
+            for one in properties:
+                self.assertIsInstance(vars(made)[one], property)
+
+    def test_each_file_has_its_tests(self):
+        for name in [*FUNCTIONS, *CLASSES, "errors"]:
+            self.assertTrue(inspect.ismodule(importlib.import_module("tests.test_" + name)))
+
+
+if __name__ == "__main__":
+    unittest.main()
