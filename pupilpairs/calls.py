@@ -80,33 +80,58 @@ def moved_by(call, files, rows, place):
     """The place to which a call brings whoever stands at a place."""
     if not is_straight(call):
         return moved_by_open_call(call[0], files, rows, place)
+    row, file = place
+    cut, ahead, behind = cut_of(call, files, rows, file)
+    to, sign, shift = ahead if row < cut else behind
+    return (sign * row + shift, to)
+
+
+def cut_of(call, files, rows, file):
+    """How a straight call moves a file: a row, the way of the rows ahead of it, and that of all others.
+
+    A way (to, sign, shift) leads from a row to file to, there to sign * row + shift.
+    """
     word = call[0]
-    row, file = place
-    if word == "all":
-        return ((row - call[1]) % rows, file)
+    if word == "all" or (word == "up" and call[1] == file):
+        return cut_of_up(call[-1], rows, file)
     if word == "about":
-        return (rows - 1 - row, files - 1 - file)
-    if file not in files_of(call):
-        return place
-    if word == "up":
-        return ((row - call[2]) % rows, file)
+        return whole((files - 1 - file, -1, rows - 1))
+    if word == "up" or file not in call[1:3]:
+        return whole((file, 1, 0))
     if word == "wheel":
-        return moved_by_wheel(call, rows, place)
-    if word == "front" and row != 0:
-        return place
+        return cut_of_wheel(call, rows, file)
     # "swap" in each row, or "front" in the front row: from one of the two files to the other.
-    return (row, call[1] + call[2] - file)
+    across = (call[1] + call[2] - file, 1, 0)
+    if word == "front":
+        return (1, across, (file, 1, 0))
+    return whole(across)
 
 
-def moved_by_wheel(call, rows, place):
-    """The place to which a wheel brings whoever stands in one of its two files."""
+def whole(way):
+    """The cut of a file that goes one way."""
+    return (0, way, way)
+
+
+def cut_of_up(k, rows, file):
+    """The cut of a file that goes up, the front to the back."""
+    cut = k % rows
+    return (cut, (file, 1, rows - cut), (file, 1, -cut))
+
+
+def cut_of_wheel(call, rows, file):
+    """The cut of one of the two files of a wheel."""
     rising, falling, k = call[1:]
-    row, file = place
-    seat = rows - 1 - row if file == rising else rows + row
-    seat = (seat + k) % (2 * rows)
-    if seat < rows:
-        return (rows - 1 - seat, rising)
-    return (seat - rows, falling)
+    k = k % (2 * rows)
+    if file == rising:
+        over = (falling, -1, k - 1)
+        if k < rows:
+            return (k, over, (rising, 1, -k))
+        # More than half a turn: the others go down one file and up in their own again.
+        return (k - rows, (rising, 1, 2 * rows - k), over)
+    over = (rising, -1, 2 * rows - 1 - k)
+    if k < rows:
+        return (rows - k, (falling, 1, k), over)
+    return (2 * rows - k, over, (falling, 1, k - 2 * rows))
 
 
 def moved_by_open_call(word, files, rows, place):

@@ -1,6 +1,6 @@
 """Lines of pupils that stand somewhere and are moved."""
 
-from pupilpairs.calls import is_call, moved_by
+from pupilpairs.calls import cut_of, is_call, is_straight, turned
 from pupilpairs.errors import NoCall, NoPlace, NoPupil, Unlike, Wrong
 from pupilpairs.kinds import is_files, is_index, is_rows
 from pupilpairs.moves import is_place, number_of, place_of
@@ -11,8 +11,34 @@ MOST_ROWS = 400
 
 def moves_of_call(call, files, rows):
     """The numbers of the places to which a call brings from the places 0, 1, .. ."""
-    places = [place_of(files, number) for number in range(files * rows)]
-    return [number_of(files, moved_by(call, files, rows, place)) for place in places]
+    if not is_straight(call):
+        return moves_of_open_call(call, files, rows)
+    moves = [0] * (files * rows)
+    for file in range(files):
+        cut, ahead, behind = cut_of(call, files, rows, file)
+        # A way goes evenly, so its numbers are told as a whole instead of place by place.
+        moves[file:cut * files:files] = numbers_of(ahead, files, 0, cut)
+        moves[cut * files + file::files] = numbers_of(behind, files, cut, rows)
+    return moves
+
+
+def numbers_of(way, files, begin, end):
+    """The numbers of the places to which a way leads from the rows from begin on ahead of end."""
+    to, sign, shift = way
+    start = (sign * begin + shift) * files + to
+    step = sign * files
+    return list(range(start, start + step * (end - begin), step))
+
+
+def moves_of_open_call(call, files, rows):
+    """The same of a call that is not straight."""
+    if call[0] == "pair":
+        return [file * rows + row for row in range(rows) for file in range(files)]
+    if call[0] == "fill":
+        order = list(range(0, rows, 2)) + list(range(1, rows, 2))
+        return [row * files + file for row in order for file in range(files)]
+    # The other two are undone by these.
+    return rearranged(list(range(files * rows)), moves_of_open_call(turned(call), files, rows))
 
 
 def moves_of(script, rows):

@@ -1,6 +1,6 @@
 """Stretches: the runs of rows that a straight script moves evenly on a line."""
 
-from pupilpairs.calls import moved_by, size_of
+from pupilpairs.calls import cut_of
 from pupilpairs.errors import NoPlace, Open
 from pupilpairs.kinds import is_integer
 from pupilpairs.moves import is_place
@@ -10,18 +10,32 @@ def stretches(script, rows):
     """The ascending list of the stretches of all files."""
     if not script.is_straight():
         raise Open()
-    told = [(file, 0, rows - 1, file, 1, 0) for file in range(script.files)]
+    parts = [(file, 0, rows - 1, file, 1, 0) for file in range(script.files)]
     for call in script:
-        told = joined(told, parts_of_call(call, script.files, rows))
-    return told
+        parts = parted(parts, [cut_of(call, script.files, rows, file) for file in range(script.files)])
+    return merged(parts)
 
 
 def stretch_at(script, rows, place):
     """The stretch that has a place."""
-    told = stretches(script, rows)
+    if not script.is_straight():
+        raise Open()
     if not is_place(script.files, rows, place):
         raise NoPlace(place)
-    return [stretch for stretch in told if has_place(stretch, place)][0]
+    part = part_at(script, rows, place)
+    file = place[1]
+    # The stretches are many, so only the parts are made that go on evenly from this one.
+    while part[1] > 0:
+        ahead = part_at(script, rows, (part[1] - 1, file))
+        if not goes_on(ahead, part):
+            break
+        part = stretch_between(ahead, part)
+    while part[2] < rows - 1:
+        behind = part_at(script, rows, (part[2] + 1, file))
+        if not goes_on(part, behind):
+            break
+        part = stretch_between(part, behind)
+    return stretch_between(part, part)
 
 
 def led_by(stretch, row):
@@ -32,10 +46,11 @@ def led_by(stretch, row):
 
 def joined(first, second):
     """The stretches of two scripts, one behind the other, from those of both."""
+    ways = by_files(second)
     parts = []
     for stretch in first:
-        parts.extend(carried(stretch, second))
-    return merged(sorted(parts))
+        parts.extend(carried(stretch, ways[stretch[3]]))
+    return merged(parts)
 
 
 def are_stretches(script, rows, thing):
@@ -59,59 +74,86 @@ def is_list_of_integers(thing):
     return all([is_integer(number) for item in thing for number in item])
 
 
-def part_between(file, first, last, begin, end):
-    """The part of a file that leads evenly from its first and last row to two places."""
-    sign = -1 if end[0] < begin[0] else 1
-    return (file, first, last, begin[1], sign, begin[0] - sign * first)
+def by_files(told):
+    """The stretches of a line in a dict by their files."""
+    files = {}
+    for stretch in told:
+        files.setdefault(stretch[0], []).append(stretch)
+    return files
 
 
-def parts_of_call(call, files, rows):
-    """Parts, not always greatest ones, that a straight call moves evenly."""
-    # Whatever the call, nothing breaks but at the front and at the rows that k counts from an end.
-    size = size_of(call)
-    starts = sorted(set([0, size % rows, -size % rows]))
-    lasts = [start - 1 for start in starts[1:]] + [rows - 1]
-    parts = []
-    for file in range(files):
-        for first, last in zip(starts, lasts):
-            begin = moved_by(call, files, rows, (first, file))
-            end = moved_by(call, files, rows, (last, file))
-            parts.append(part_between(file, first, last, begin, end))
-    return parts
+def led_on(part, first, last, way):
+    """The rows from first to last of a part, led on by a way of the file to which it leads."""
+    file, sign, shift = part[0], part[4], part[5]
+    to, after, further = way
+    return (file, first, last, to, after * sign, after * shift + further)
 
 
-def carried(stretch, second):
-    """The parts into which a stretch falls when those of second go on from where it leads."""
+def parted(parts, cuts):
+    """The parts, in order, into which parts fall at the cuts of the files, and where the cuts' ways lead them."""
+    told = []
+    for part in parts:
+        file, first, last, to, sign, shift = part
+        cut, ahead, behind = cuts[to]
+        # As rows of this part: the last row ahead of the cut, or behind it where the part is led turned about.
+        edge = cut - 1 - shift if sign == 1 else shift - cut
+        near, far = (ahead, behind) if sign == 1 else (behind, ahead)
+        if edge >= last:
+            told.append(led_on(part, first, last, near))
+        elif edge < first:
+            told.append(led_on(part, first, last, far))
+        else:
+            told.append(led_on(part, first, edge, near))
+            told.append(led_on(part, edge + 1, last, far))
+    return told
+
+
+def part_at(script, rows, place):
+    """A part that a straight script moves evenly and that has a place, not always a greatest one."""
+    row, file = place
+    parts = [(file, 0, rows - 1, file, 1, 0)]
+    for call in script:
+        cuts = {parts[0][3]: cut_of(call, script.files, rows, parts[0][3])}
+        parts = [part for part in parted(parts, cuts) if part[1] <= row <= part[2]]
+    return parts[0]
+
+
+def carried(stretch, ways):
+    """The parts, in order, into which a stretch falls when the stretches of the file it leads to go on from there."""
     file, first, last, to, sign, shift = stretch
-    low, high = sorted([sign * first + shift, sign * last + shift])
     parts = []
-    for after in second:
-        begin = max(low, after[1])
-        end = min(high, after[2])
-        if after[0] == to and begin <= end:
-            start, stop = sorted([sign * (begin - shift), sign * (end - shift)])
-            ends = [led_by(after, led_by(stretch, row)[0]) for row in (start, stop)]
-            parts.append(part_between(file, start, stop, ends[0], ends[1]))
+    for way in ways if sign == 1 else ways[::-1]:
+        ends = [sign * (way[1] - shift), sign * (way[2] - shift)]
+        begin = max(first, min(ends))
+        end = min(last, max(ends))
+        if begin <= end:
+            parts.append(led_on(stretch, begin, end, way[3:]))
     return parts
 
 
 def merged(parts):
-    """Parts that fill the files, in order, as greatest stretches."""
+    """Parts that fill files, in order, as greatest stretches."""
     told = []
     for part in parts:
         if told and goes_on(told[-1], part):
-            whole = told.pop()
-            begin = led_by(whole, whole[1])
-            end = led_by(part, part[2])
-            part = part_between(part[0], whole[1], part[2], begin, end)
-        told.append(part)
+            told.append(stretch_between(told.pop(), part))
+        else:
+            told.append(stretch_between(part, part))
     return told
 
 
 def goes_on(stretch, part):
-    """Whether a part goes on evenly where a stretch of the same file ends."""
+    """Whether a part goes on evenly where a stretch ahead of it ends."""
     # No two rows are led to one place, so parts that touch there have the same sign.
     if stretch[0] != part[0] or stretch[3] != part[3]:
         return False
-    step = led_by(part, part[1])[0] - led_by(stretch, stretch[2])[0]
-    return abs(step) == 1
+    step = part[4] * part[1] + part[5] - stretch[4] * stretch[2] - stretch[5]
+    return step in (1, -1)
+
+
+def stretch_between(one, other):
+    """The stretch from the first row of a part to the last row of one that goes on from it."""
+    file, first, last, to = one[0], one[1], other[2], one[3]
+    begin = one[4] * first + one[5]
+    sign = -1 if other[4] * last + other[5] < begin else 1
+    return (file, first, last, to, sign, begin - sign * first)

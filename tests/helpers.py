@@ -4,6 +4,7 @@ The model is gone through place by place and step by step, so that it has nothin
 """
 
 import random
+import time
 
 from pupilpairs.errors import NoPlace, Nothing, PupilError, Wrong
 from pupilpairs.lines import Line
@@ -171,3 +172,26 @@ def drawn_scripts(seed, count, words=STRAIGHT, many=12, size=16):
     """Scripts for two and for three files, the same for the same seed."""
     draw = random.Random(seed)
     return [drawn_script(draw, draw.choice([2, 3]), words, many, size) for _ in range(count)]
+
+
+def known_loop():
+    """A loop that takes about a millisecond."""
+    total = 0
+    for number in range(20000):
+        total += number
+    return total
+
+
+def best_time(function):
+    """The least time of several in which a function is done."""
+    times = []
+    for _ in range(7):
+        begin = time.process_time()
+        function()
+        times.append(time.process_time() - begin)
+    return min(times)
+
+
+def known_loops(function):
+    """In how many times the time of the known loop a function is done."""
+    return best_time(function) / best_time(known_loop)

@@ -6,7 +6,9 @@ from pupilpairs.errors import NoCall, NoPlace, NoPupil, Unlike, Wrong
 from pupilpairs.lines import Line, moves_of
 from pupilpairs.moves import moved, number_of, place_of
 from pupilpairs.scripts import Script
-from tests.helpers import OPEN, STRAIGHT, all_places, any_values, drawn_scripts, kinds_of_calls, model_script, raised
+from tests.helpers import (
+    OPEN, STRAIGHT, all_places, any_values, drawn_scripts, kinds_of_calls, known_loops, model_script, raised,
+)
 
 HUGE = 10 ** 40 - 1
 DRAWN = drawn_scripts(31, 40, STRAIGHT + OPEN)
@@ -301,6 +303,26 @@ class MovesOfTest(unittest.TestCase):
                 for number in range(0, script.files * rows, 37):
                     there = moved(script, rows, place_of(script.files, number))
                     self.assertEqual(told[number], number_of(script.files, there))
+
+    def test_each_kind_of_call(self):
+        for files in (2, 3):
+            for k in (1, -1, 3, -400, 401, 799, 800, -801, 10 ** 39 + 7):
+                for call in kinds_of_calls(files, k):
+                    for rows in (1, 2, 5, 400):
+                        script = Script(files, [call])
+                        told = moves_of(script, rows)
+                        for number in range(0, files * rows, 1 + rows // 8):
+                            there = moved(script, rows, place_of(files, number))
+                            self.assertEqual(told[number], number_of(files, there), (call, rows))
+
+    def test_time(self):
+        # About 5 each; it was 50 and more when each place was moved alone.
+        script = Script(3, [("wheel", 0, 1, 4), ("wheel", 1, 2, 3), ("up", 0, 2), ("wheel", 0, 2, -4), ("up", 1, 1),
+                            ("front", 0, 1)])
+        line = Line(3, 400)
+        self.assertLess(known_loops(lambda: [moves_of(script, 400) for _ in range(10)]), 20)
+        self.assertLess(known_loops(lambda: [line.do(script) for _ in range(10)]), 20)
+        self.assertLess(known_loops(lambda: [line.go(script, -1) for _ in range(10)]), 20)
 
     def test_moves_of_a_long_product(self):
         told = moves_of(Script(3, [("halve",), ("up", 1, 7), ("others",)]).times(100), 400)

@@ -8,10 +8,13 @@ from pupilpairs.moves import came_from, moved
 from pupilpairs.scripts import Script
 from pupilpairs.stretches import are_stretches, joined, led_by, stretch_at, stretches
 from tests.helpers import (
-    FAR, OPEN, STRAIGHT, any_values, drawn_script, drawn_scripts, kinds_of_calls, model_script, model_stretches, raised,
+    FAR, OPEN, STRAIGHT, any_values, drawn_script, drawn_scripts, kinds_of_calls, known_loops, model_script,
+    model_stretches, raised,
 )
 
 DRAWN = drawn_scripts(40, 50)
+LONG = Script(3, [("wheel", 0, 1, 4), ("wheel", 1, 2, 3), ("up", 0, 2), ("wheel", 0, 2, -4), ("up", 1, 1),
+                  ("front", 0, 1)])
 OPEN_SCRIPTS = [Script(files, [("all", 1)] * before + [(word,)] + [("about",)] * (2 - before))
                 for word in OPEN for files in (2, 3) for before in (0, 2)]
 
@@ -112,6 +115,10 @@ class StretchesTest(unittest.TestCase):
         for rows in (1, 7, 40, 157):
             self.assertEqual(stretches(script, rows), by_moved(script, rows))
 
+    def test_time(self):
+        # About 5; it was 50 when each call was joined to those ahead of it.
+        self.assertLess(known_loops(lambda: [stretches(LONG, 10 ** 29) for _ in range(100)]), 20)
+
     def test_told_lists_are_new(self):
         script = Script(2, [("up", 0, 1)])
         told = stretches(script, 4)
@@ -131,6 +138,19 @@ class AtTest(unittest.TestCase):
                         self.assertIn(stretch, told)
                         self.assertTrue(stretch[0] == file and stretch[1] <= row <= stretch[2])
                         self.assertEqual(led_by(stretch, row), moved(script, rows, (row, file)))
+
+    def test_stretch_at_is_one_of_all(self):
+        undone = [Script(2, [("up", 0, 3), ("up", 0, -3)]), Script(3, [("wheel", 0, 2, 2), ("front", 0, 2)]).times(2),
+                  LONG * ~LONG, LONG]
+        for script in undone + drawn_scripts(43, 60, many=6, size=8):
+            for rows in (1, 2, 3, 4, 7, 19, 70, FAR[2]):
+                for stretch in stretches(script, rows):
+                    for row in sorted({stretch[1], (stretch[1] + stretch[2]) // 2, stretch[2]}):
+                        told = stretch_at(script, rows, (row, stretch[0]))
+                        self.assertEqual(told, stretch, (script.calls(), rows, row))
+
+    def test_time(self):
+        self.assertLess(known_loops(lambda: [stretch_at(LONG, 10 ** 29, (7 * n, 1)) for n in range(100)]), 20)
 
     def test_led_by(self):
         self.assertEqual(led_by((0, 0, 5, 2, 1, 7), 3), (10, 2))
