@@ -174,6 +174,39 @@ def drawn_scripts(seed, count, words=STRAIGHT, many=12, size=16):
     return [drawn_script(draw, draw.choice([2, 3]), words, many, size) for _ in range(count)]
 
 
+def model_moves(script, rows):
+    """The list of the numbers of the places to which a script leads, by the model."""
+    leads = model_script(script.files, script.calls(), rows)
+    return [row * script.files + file for row, file in [leads[place] for place in all_places(script.files, rows)]]
+
+
+def model_loops(moves):
+    """The list that has, for each number, the loop that begins with it."""
+    told = []
+    for first in range(len(moves)):
+        loop = [first]
+        while moves[loop[-1]] != first:
+            loop.append(moves[loop[-1]])
+        told.append(loop)
+    return told
+
+
+def open_scripts():
+    """Scripts that are not straight, with an open call behind others, ahead of others and alone."""
+    return [Script(files, [("all", 1)] * before + [(word,)] + [("about",)] * behind)
+            for word in OPEN for files in (2, 3) for before, behind in ((0, 0), (2, 0), (0, 2))]
+
+
+def near_places(files, rows):
+    """Values that are nearly places of a line."""
+    return [(rows, 0), (0, files), (-1, 0), (0, -1), [0, 0], (True, 0), (0, False), (0, 0, 0), (0,), 0, rows, "0.0"]
+
+
+def near_pupils(files, rows):
+    """Values that are nearly numbers of pupils of a line."""
+    return [-1, files * rows, files * rows + 1, (0, 0), (0,), [0], "0", True, False, 10 ** 40]
+
+
 def known_loop():
     """A loop that takes about a millisecond."""
     total = 0
