@@ -1,6 +1,6 @@
 """Whether two scripts are alike on all lines, and the least line that parts them."""
 
-from pupilpairs.errors import Open, Unlike
+from pupilpairs.errors import Unlike
 from pupilpairs.lines import moves_of
 from pupilpairs.moves import place_of
 from pupilpairs.pieces import early
@@ -17,9 +17,7 @@ def parting(one, other):
     """The least line on which two scripts are not alike and the least place there, or None."""
     if one.files != other.files:
         raise Unlike()
-    if not one.is_straight() or not other.is_straight():
-        raise Open()
-    # Scripts that are alike on so many lines are alike on all.
+    # Scripts that are alike on so many lines are alike on all. There are no stretches, but an error, if one is open.
     for rows in range(1, max(early(one), early(other)) + 1):
         # Greatest stretches tell a line's moves in one way only.
         if stretches(one, rows) != stretches(other, rows):

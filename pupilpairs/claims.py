@@ -29,9 +29,7 @@ def is_spot(files, thing):
     if not isinstance(thing, tuple) or len(thing) != 3:
         return False
     end, row, file = thing
-    if not isinstance(end, str) or end not in ("front", "back"):
-        return False
-    return is_index(row, MOST_ROW + 1) and is_index(file, files)
+    return end in ("front", "back") and is_index(row, MOST_ROW + 1) and is_index(file, files)
 
 
 def holds(script, rows, claim):

@@ -56,13 +56,12 @@ def common_multiple(numbers):
 def loops_on(script, rows):
     """The dict from the lengths of the loops of a line to how many have it; in no order."""
     if rows <= FEW_ROWS:
-        return counted([len(loop) for loop in loops_of(moves_of(script, rows))], {})
-    short = short_loops(script, rows)
-    return counted(long_loops(script, rows), {length: short[length] for length in short if short[length] > 0})
-
-
-def counted(lengths, told):
-    """How often each length occurs, added to a dict that tells it already of others."""
+        told = {}
+        lengths = [len(loop) for loop in loops_of(moves_of(script, rows))]
+    else:
+        short = short_loops(script, rows)
+        told = {length: short[length] for length in short if short[length] > 0}
+        lengths = long_loops(script, rows)
     for length in lengths:
         told[length] = told.get(length, 0) + 1
     return told

@@ -76,7 +76,7 @@ def first_and_again(course, most, place, wished):
     for leg, many in course.legs_from(place, most):
         if first is None:
             found = [leg.rounds_to(one) for one in wished]
-            found = [rounds for rounds in found if rounds is not None and rounds <= many]
+            found = [rounds for rounds in found if rounds is not None]
             first = gone + min(found) if found else None
         gone += many
     return (first, gone)

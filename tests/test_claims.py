@@ -212,6 +212,16 @@ class AnswerTest(unittest.TestCase):
             truths = [rows > 9 and (9 + k // 2) % rows == (rows - 10 - k // 2) % rows for rows in range(1, 300)]
             self.assertEqual(answer(both, claim), answer_of(truths))
 
+    def test_the_latest_answers(self):
+        # Those from both ends come as far as they can, and stand in one row on one long line.
+        script = Script(2, [("wheel", 0, 1, 1)])
+        for k in (0, 1, 45, 90):
+            claim = ("beside", k, ("front", 9, 1), ("back", 9, 0))
+            early, first, later = answer(script, claim)
+            self.assertEqual([early[-1], first, later], [2 * k + 19, 2 * k + 20, False])
+            self.assertEqual(answer_all(script, [claim, ("beside", k, ("front", 0, 0), ("front", 0, 0))]),
+                             (early, first, later))
+
     def test_answer_all(self):
         draw = random.Random(706)
         seen = {}

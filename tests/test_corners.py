@@ -14,12 +14,14 @@ from tests.helpers import (
 )
 
 DRAWN = drawn_scripts(530, 45)
+# By two rows up or down, evenly but for one row, over which those of every other row are led.
+SKIPPING = [Script(2, [("all", 7), ("front", 0, 1), ("all", -5)]), Script(2, [("all", 5), ("front", 1, 0), ("all", -7)])]
 TURNING = [
     Script(3, [("about",), ("swap", 0, 1), ("up", 0, 1)]), Script(3, [("swap", 0, 1), ("swap", 1, 2), ("up", 1, 2)]),
     Script(2, [("about",), ("wheel", 0, 1, 1)]), Script(3, [("swap", 0, 2), ("front", 0, 1), ("up", 2, -1)]),
     Script(2, [("front", 0, 1), ("wheel", 1, 0, 3), ("swap", 0, 1)]), Script(3, [("about",)]), Script(2, []),
     Script(3, [("about",), ("swap", 1, 2), ("up", 2, 5), ("front", 0, 2), ("all", -3)]),
-    Script(2, [("up", 0, 16)]), Script(3, [("up", 0, 1), ("up", 1, -1), ("front", 0, 1)]),
+    Script(2, [("up", 0, 16)]), SKIPPING[0], SKIPPING[1], Script(3, [("up", 0, 1), ("up", 1, -1), ("front", 0, 1)]),
 ]
 SHORT = (1, 2, 3, 4, 5, 6, 9, 14)
 ROUNDS = (0, 1, -1, 2, -2, 3, 5, -7, 30, 1000, -1001, 10 ** 40 - 1, -10 ** 40 + 1)
@@ -256,6 +258,46 @@ class IsWalkTest(unittest.TestCase):
                         else:
                             no += 1
         self.assertTrue(yes > 400 and no > 400)
+
+    def test_rounds_that_leave_a_stretch(self):
+        for rows in (20, 21, FAR[0]):
+            up, down = SKIPPING
+            self.assertEqual(stretch_at(up, rows, (8, 0)), (0, 8, rows - 1, 0, 1, -2))
+            self.assertEqual(stretch_at(down, rows, (6, 0)), (0, 6, rows - 3, 0, 1, 2))
+            for many, holds in ((1, True), (2, True), (3, True), (4, True), (5, False), (6, False)):
+                for script, place, end in ((up, (14, 0), (14 - 2 * many, 0)), (down, (6 - 2 * (many - 4), 0), (14, 0))):
+                    self.assertEqual(behind(script, rows, place, many), end)
+                    rest = walk(script, rows, end)
+                    left = sum(rounds for begin, rounds in rest) - many
+                    thing = [(place, many)] + [(behind(script, rows, end, done), 1) for done in range(min(left, 60))]
+                    if left < 60:
+                        self.assertIs(is_walk(script, rows, thing), holds, thing)
+                    self.assertIs(keeps_to(script, rows, place, many, end), holds)
+
+    def test_rounds_that_turn_rows_about(self):
+        # As many rows on, twice, would lead to another place of the loop; but what is turned about comes back.
+        for files, calls, rows, place in (
+                (2, [("about",), ("wheel", 0, 1, -1), ("all", 1), ("front", 0, 1)], 3, (2, 1)),
+                (2, [("wheel", 1, 0, 2), ("all", 2), ("about",)], 3, (0, 0)),
+                (2, [("front", 0, 1), ("swap", 1, 0), ("wheel", 0, 1, 2)], 9, (2, 1)),
+                (3, [("swap", 0, 2), ("wheel", 2, 0, 2), ("front", 0, 2)], 7, (2, 0))):
+            script = Script(files, calls)
+            self.assertEqual(turn_of(script), 2)
+            there = behind(script, rows, place, 2)
+            self.assertEqual(stretch_at(script.times(2), rows, place), stretch_at(script.times(2), rows, there))
+            self.assertEqual(behind(script, rows, there, 2), place)
+            loop = [begin for begin, many in self.singles(script, rows, place)]
+            further = loop.index((2 * there[0] - place[0], place[1]))
+            self.assertIs(is_walk(script, rows, [(place, 4)] + self.singles(script, rows, place)[further:]), False)
+            self.assertIs(is_walk(script, rows, [(place, 2), (there, 2)]), True)
+            self.assertIs(is_walk(script, rows, [(place, 4)]), False)
+
+    def singles(self, script, rows, place):
+        """The walk of a loop that goes round by round."""
+        told = [(place, 1)]
+        while moved(script, rows, told[-1][0]) != place:
+            told.append((moved(script, rows, told[-1][0]), 1))
+        return told
 
     def test_many_rounds_at_one_place(self):
         about = Script(3, [("about",)])

@@ -21,6 +21,11 @@ DRAWN = drawn_scripts(620, 50, many=6, size=8) + [
     Script(3, [("about",), ("swap", 0, 1), ("up", 0, 1)]), Script(3, [("about",), ("swap", 0, 1)]),
     Script(3, [("swap", 0, 1), ("swap", 1, 2), ("up", 1, 2)]), Script(2, [("wheel", 0, 1, 1), ("front", 0, 1)]),
     Script(3, [("up", 0, 1), ("front", 0, 1), ("up", 0, -1), ("front", 1, 2)]),
+    # Scripts that turn rows about near an end, where the first or the last of them stays.
+    Script(2, [("swap", 0, 1), ("up", 0, 1), ("wheel", 0, 1, 2)]),
+    Script(3, [("wheel", 1, 2, 1), ("swap", 0, 2), ("wheel", 0, 2, -2)]),
+    Script(3, [("wheel", 2, 1, -3), ("front", 0, 2), ("swap", 2, 1)]),
+    Script(3, [("wheel", 0, 2, 3), ("wheel", 1, 0, 2), ("about",)]),
 ]
 SHORT = (1, 2, 3, 4, 7, 12)
 

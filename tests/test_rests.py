@@ -152,6 +152,10 @@ class PowerTest(unittest.TestCase):
         self.assertEqual([lengths_on(model_moves(script, rows)) for rows in (1, 2, 3)], [{1: 2}, {1: 4}, {1: 2, 2: 2}])
         script = Script(3, [("front", 0, 1), ("all", 2), ("front", 1, 2), ("all", -2)])
         self.assertEqual(power_of(script), 6)
+        # Here only those of a line of one row stand in each other's way.
+        script = Script(3, [("front", 0, 1), ("all", 1), ("front", 1, 2), ("all", -1)])
+        self.assertEqual(power_of(script), 6)
+        self.assertEqual([lengths_on(model_moves(script, rows)) for rows in (1, 2)], [{3: 1}, {1: 2, 2: 2}])
 
     def test_few(self):
         self.assertEqual([power_of(Script(2, [])), power_of(Script(3, [("about",)])),
