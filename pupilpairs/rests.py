@@ -109,8 +109,8 @@ def places_kept(told):
 def long_loops(script, rows):
     """The lengths of all other loops, in the order of their first places near the ends.
 
-    Only such loops have no place near an end whose places all stay in their rows behind a turn. Counted from the ends,
-    the places near them are the same on all long lines, so the order is, too.
+    A place that does not come back within a turn is led on until it comes near an end, so none of these loops is missed.
+    Counted from the ends, the places near them are the same on all long lines, so the order is, too.
     """
     nexts = nexts_near_ends(script, rows)
     turn = turn_of(script)

@@ -15,7 +15,8 @@ from tests.helpers import (
 
 DRAWN = drawn_scripts(530, 45)
 # By two rows up or down, evenly but for one row, over which those of every other row are led.
-SKIPPING = [Script(2, [("all", 7), ("front", 0, 1), ("all", -5)]), Script(2, [("all", 5), ("front", 1, 0), ("all", -7)])]
+SKIPPING = [Script(2, [("all", 7), ("front", 0, 1), ("all", -5)]),
+            Script(2, [("all", 5), ("front", 1, 0), ("all", -7)])]
 TURNING = [
     Script(3, [("about",), ("swap", 0, 1), ("up", 0, 1)]), Script(3, [("swap", 0, 1), ("swap", 1, 2), ("up", 1, 2)]),
     Script(2, [("about",), ("wheel", 0, 1, 1)]), Script(3, [("swap", 0, 2), ("front", 0, 1), ("up", 2, -1)]),
@@ -318,7 +319,8 @@ class IsWalkTest(unittest.TestCase):
                 for index, (place, many) in enumerate(told):
                     ahead, behind_it = told[:index], told[index + 1:] + rest
                     changed = [(place, many + 1), (place, many + turn_of(script)), (place, many - 1), (place, 0),
-                               (place, -many), (place, str(many)), (place, None), (place,), (place, many, 0), [place, many],
+                               (place, -many), (place, str(many)), (place, None), (place,), (place, many, 0),
+                               [place, many],
                                (list(place), many), (many, place), place + (many,), ((place[0], place[1] + 3), many),
                                ((place[0] + rows, place[1]), many), ((place[0],), many), None]
                     if many == 1:
