@@ -109,7 +109,7 @@ def places_kept(told):
 def long_loops(script, rows):
     """The lengths of all other loops, in the order of their first places near the ends.
 
-    A place that does not come back within a turn is led on until it comes near an end, so none of these loops is missed.
+    A place that does not come back within a turn is led on until it comes near an end, so no such loop is missed.
     Counted from the ends, the places near them are the same on all long lines, so the order is, too.
     """
     nexts = nexts_near_ends(script, rows)
