@@ -115,10 +115,9 @@ def behind(script, rows, place, rounds):
         raise Open()
     if not is_place(script.files, rows, place):
         raise NoPlace(place)
-    left = abs(rounds)
-    legs = Course(script if rounds >= 0 else ~script, rows).legs_from(place, left)
-    # There are fewer rounds in the legs than are left only if they are the whole loop.
-    left = left % sum([many for leg, many in legs])
+    legs = Course(script if rounds >= 0 else ~script, rows).legs_from(place, abs(rounds))
+    # There are fewer rounds in the legs than are asked for only if they are the whole loop.
+    left = abs(rounds) % sum([many for leg, many in legs])
     for leg, many in legs:
         if left < many:
             break

@@ -31,6 +31,31 @@ LIMITED = (
 )
 
 
+CHANGING = "append clear extend insert pop remove reverse setdefault update".split()
+
+
+def names_handed(value):
+    """The names that stand in a call, the ones in the calls in it, too."""
+    if not isinstance(value, ast.Call):
+        return []
+    if isinstance(value.func, ast.Name) and value.func.id in ("range", "abs", "len", "list", "sum", "min", "max"):
+        return []
+    return [node.id for node in ast.walk(value) if isinstance(node, ast.Name)]
+
+
+def changed_in(rows):
+    """The names, attributes and items that rows change, without those that they only bind anew."""
+    told = set()
+    for node in [node for row in rows for node in ast.walk(row)]:
+        if isinstance(node, ast.AugAssign):
+            told.add(ast.unparse(node.target))
+        if isinstance(node, ast.Subscript) and not isinstance(node.ctx, ast.Load):
+            told.add(ast.unparse(node.value))
+        if isinstance(node, ast.Call) and isinstance(node.func, ast.Attribute) and node.func.attr in CHANGING:
+            told.add(ast.unparse(node.func.value))
+    return told
+
+
 class LanguageTest(unittest.TestCase):
     def setUp(self):
         self.texts = {path.name: path.read_text() for path in sorted(PACKAGE.glob("*.py"))}
@@ -117,6 +142,19 @@ class LanguageTest(unittest.TestCase):
                 self.assertIn(node.func.id, own | set(BUILTINS), name)
             else:
                 self.assertIn(node.func.attr, own | set(METHODS), name)
+
+    def test_what_a_loop_walks_is_not_changed_in_it(self):
+        # What a call returns may be what it was handed, so that counts as walked, too.
+        for name, function in self.nodes(ast.FunctionDef):
+            handed = {}
+            for node in ast.walk(function):
+                if isinstance(node, ast.Assign):
+                    for target in node.targets:
+                        handed.setdefault(ast.unparse(target), []).extend(names_handed(node.value))
+            for loop in ast.walk(function):
+                if isinstance(loop, ast.For):
+                    walked = {ast.unparse(loop.iter), *names_handed(loop.iter), *handed.get(ast.unparse(loop.iter), [])}
+                    self.assertEqual(walked & changed_in(loop.body), set(), (name, loop.lineno))
 
     def test_the_words_of_equality(self):
         for name, node in self.nodes(ast.FunctionDef):
