@@ -191,6 +191,19 @@ def model_loops(moves):
     return told
 
 
+def model_together(moves, files, one, other):
+    """Behind which rounds two pupils are in one row, gone through until both are back, and behind how many that is."""
+    first, second = one, other
+    told = []
+    rounds = 0
+    while rounds == 0 or (first, second) != (one, other):
+        if first // files == second // files:
+            told.append(rounds)
+        first, second = moves[first], moves[second]
+        rounds += 1
+    return told, rounds
+
+
 def open_scripts():
     """Scripts that are not straight, with an open call behind others, ahead of others and alone."""
     return [Script(files, [("all", 1)] * before + [(word,)] + [("about",)] * behind)

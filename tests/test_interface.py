@@ -29,6 +29,15 @@ FUNCTIONS = {
               "never_lead(script, rows)", "leads(script, rows, pupil)"],
     "claims": ["is_claim(script, thing)", "holds(script, rows, claim)", "answer(script, claim)",
                "answer_all(script, claims)", "breaking(script, claim)"],
+    "meetings": ["first_meeting(script, rows, one, other)", "apart(script, rows, one, other)",
+                 "met(script, rows, pupil)", "is_apart(script, rows, one, other, divisor)", "all_met(script, rows)",
+                 "strangers(script, rows)"],
+    "often": ["often(script, rows, one, other)", "company(script, rows, pupil)",
+              "first_after(script, rows, one, other, rounds)", "longest_apart(script, rows, one, other)",
+              "closest(script, rows)"],
+    "halves": ["halved(files, rows, place, rounds)", "stepped(rows, row, rounds)"],
+    "orders": ["order_paper(base, modulus)", "is_order_paper(base, modulus, thing)", "halve_return(files, rows)",
+               "others_return(rows)"],
 }
 CLASSES = {
     "scripts": ("Script(files, calls)",
