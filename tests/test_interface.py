@@ -38,6 +38,10 @@ FUNCTIONS = {
     "halves": ["halved(files, rows, place, rounds)", "stepped(rows, row, rounds)"],
     "orders": ["order_paper(base, modulus)", "is_order_paper(base, modulus, thing)", "halve_return(files, rows)",
                "others_return(rows)"],
+    "seek": ["arranged(files, rows, calls)", "seek(files, rows, calls, wished)", "levels(files, rows, calls)",
+             "bounds(files, rows, calls)", "is_bound(files, rows, calls, thing)"],
+    "notation": ["show_call(call)", "show_script(script)", "show_place(place)", "show_claim(claim)"],
+    "readers": ["read_call(text)", "read_place(text)", "read_claim(text)", "read_script(text)"],
 }
 CLASSES = {
     "scripts": ("Script(files, calls)",
@@ -50,6 +54,12 @@ CLASSES = {
                "at(self, place)", "place_of(self, pupil)", "row_of(self, pupil)", "is_home(self)", "do(self, thing)",
                "go(self, script, rounds)", "copied(self)"],
               ["files", "rows"]),
+    "parade": ("Parade(files, rows)",
+               ["__len__(self)", "do(self, call)", "back(self)", "again(self)", "done(self)", "away(self)",
+                "line(self)", "trial(self, calls)", "leave(self, pupil)", "come(self, pupil)", "place_of(self, pupil)",
+                "mates(self, pupil)", "met(self, pupil)"],
+               ["files", "rows"]),
+    "desk": ("Desk()", ["execute(self, line)"], []),
 }
 
 

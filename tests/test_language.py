@@ -27,7 +27,7 @@ BARRED_NAMES = (
     "setattr super vars hash map filter"
 ).split()
 LIMITED = (
-    ast.Global, ast.AsyncFunctionDef, ast.Await, ast.JoinedStr, ast.SetComp, ast.Set, ast.Try, ast.With, ast.Yield,
+    ast.Global, ast.AsyncFunctionDef, ast.Await, ast.JoinedStr, ast.SetComp, ast.Set, ast.With, ast.Yield,
 )
 
 
@@ -105,6 +105,13 @@ class LanguageTest(unittest.TestCase):
 
     def test_statements(self):
         self.assertEqual([(name, type(node)) for name, node in self.nodes(LIMITED)], [])
+
+    def test_own_errors_alone_are_caught(self):
+        own = {node.name for node in self.trees["errors.py"].body if isinstance(node, ast.ClassDef)}
+        for name, node in self.nodes(ast.Try):
+            self.assertEqual([node.orelse, node.finalbody], [[], []], name)
+            for handler in node.handlers:
+                self.assertIn(handler.type.id, own, name)
 
     def test_names(self):
         for name, tree in self.trees.items():
