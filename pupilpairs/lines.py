@@ -1,6 +1,6 @@
 """Lines of pupils that stand somewhere and are moved."""
 
-from pupilpairs.calls import cut_of, is_call, is_straight, turned
+from pupilpairs.calls import is_call
 from pupilpairs.errors import NoCall, NoPlace, NoPupil, Unlike, Wrong
 from pupilpairs.kinds import is_files, is_index, is_rows
 from pupilpairs.moves import is_place, number_of, place_of
@@ -9,48 +9,134 @@ from pupilpairs.scripts import Script
 MOST_ROWS = 400
 
 
-def moves_of_call(call, files, rows):
-    """The numbers of the places to which a call brings from the places 0, 1, .. ."""
-    if not is_straight(call):
-        return moves_of_open_call(call, files, rows)
-    moves = [0] * (files * rows)
+def behind_all(columns, call):
+    """The columns of a line behind "all"; a column is the list of those who stand in a file, from the front.
+
+    Columns are cut and joined as a whole, since that takes far less time than to move place by place.
+    """
+    cut = call[1] % len(columns[0])
+    return [column[cut:] + column[:cut] for column in columns]
+
+
+def behind_up(columns, call):
+    """The columns behind "up"."""
+    told = list(columns)
+    column = columns[call[1]]
+    cut = call[2] % len(column)
+    told[call[1]] = column[cut:] + column[:cut]
+    return told
+
+
+def behind_swap(columns, call):
+    """The columns behind "swap"."""
+    f, g = call[1:]
+    told = list(columns)
+    told[f], told[g] = columns[g], columns[f]
+    return told
+
+
+def behind_wheel(columns, call):
+    """The columns behind "wheel"."""
+    f, g, k = call[1:]
+    told = list(columns)
+    rows = len(columns[f])
+    ring = columns[f][::-1] + columns[g]
+    cut = -k % len(ring)
+    ring = ring[cut:] + ring[:cut]
+    told[f], told[g] = ring[rows - 1::-1], ring[rows:]
+    return told
+
+
+def behind_about(columns, call):
+    """The columns behind "about"."""
+    return [column[::-1] for column in columns[::-1]]
+
+
+def behind_front(columns, call):
+    """The columns behind "front"."""
+    f, g = call[1:]
+    told = list(columns)
+    told[f], told[g] = columns[g][:1] + columns[f][1:], columns[f][:1] + columns[g][1:]
+    return told
+
+
+def behind_halve(columns, call):
+    """The columns behind "halve"."""
+    order = order_of(columns)
+    rows = len(columns[0])
+    return [order[begin:begin + rows] for begin in range(0, len(order), rows)]
+
+
+def behind_pair(columns, call):
+    """The columns behind "pair"."""
+    return columns_of([pupil for column in columns for pupil in column], len(columns))
+
+
+def behind_others(columns, call):
+    """The columns behind "others"."""
+    return [column[::2] + column[1::2] for column in columns]
+
+
+def behind_fill(columns, call):
+    """The columns behind "fill"."""
+    evens = (len(columns[0]) + 1) // 2
+    told = [list(column) for column in columns]
+    for file in range(len(columns)):
+        told[file][::2] = columns[file][:evens]
+        told[file][1::2] = columns[file][evens:]
+    return told
+
+
+ACTIONS = {
+    "all": behind_all,
+    "up": behind_up,
+    "swap": behind_swap,
+    "wheel": behind_wheel,
+    "about": behind_about,
+    "front": behind_front,
+    "halve": behind_halve,
+    "pair": behind_pair,
+    "others": behind_others,
+    "fill": behind_fill,
+}
+
+
+def columns_led(columns, calls):
+    """The columns of a line behind calls, one behind another."""
+    for call in calls:
+        action = ACTIONS[call[0]]
+        columns = action(columns, call)
+    return columns
+
+
+def columns_of(order, files):
+    """The columns of a line whose pupils stand in some order, row by row."""
+    return [order[file::files] for file in range(files)]
+
+
+def order_of(columns):
+    """The list of those who stand in columns, row by row."""
+    files = len(columns)
+    told = [0] * (files * len(columns[0]))
     for file in range(files):
-        cut, ahead, behind = cut_of(call, files, rows, file)
-        # A way goes evenly, so its numbers are told as a whole instead of place by place.
-        moves[file:cut * files:files] = numbers_of(ahead, files, 0, cut)
-        moves[cut * files + file::files] = numbers_of(behind, files, cut, rows)
-    return moves
+        told[file::files] = columns[file]
+    return told
 
 
-def numbers_of(way, files, begin, end):
-    """The numbers of the places to which a way leads from the rows from begin on ahead of end."""
-    to, sign, shift = way
-    start = (sign * begin + shift) * files + to
-    step = sign * files
-    return list(range(start, start + step * (end - begin), step))
+def first_columns(files, rows):
+    """The columns of a line whose pupils stand as at first."""
+    return columns_of(list(range(files * rows)), files)
 
 
-def moves_of_open_call(call, files, rows):
-    """The same of a call that is not straight."""
-    if call[0] == "pair":
-        return [file * rows + row for row in range(rows) for file in range(files)]
-    if call[0] == "fill":
-        order = list(range(0, rows, 2)) + list(range(1, rows, 2))
-        return [row * files + file for row in order for file in range(files)]
-    # The other two are undone by these.
-    return rearranged(list(range(files * rows)), moves_of_open_call(turned(call), files, rows))
+def order_behind(script, rows):
+    """The list of the pupils of a line by the numbers of their places, behind a script."""
+    return order_of(columns_led(first_columns(script.files, rows), script.calls()))
 
 
 def moves_of(script, rows):
     """The numbers of the places to which a script leads from the places 0, 1, .. ."""
-    known = {}
-    numbers = list(range(script.files * rows))
-    for call in script:
-        # Scripts that were multiplied have the same few calls many times.
-        if call not in known:
-            known[call] = moves_of_call(call, script.files, rows)
-        numbers = followed(numbers, known[call])
-    return numbers
+    # Turned back, the script brings to each place whoever stood at first where it leads from there.
+    return order_behind(~script, rows)
 
 
 def followed(one, other):
@@ -142,12 +228,12 @@ class Line:
     def do(self, thing):
         """Does a call or a Script."""
         if is_call(self.width, thing):
-            moves = moves_of_call(thing, self.width, self.depth)
+            calls = [thing]
         elif isinstance(thing, Script) and thing.files == self.width:
-            moves = moves_of(thing, self.depth)
+            calls = thing.calls()
         else:
             raise NoCall(thing)
-        self.standing = rearranged(self.standing, moves)
+        self.standing = order_of(columns_led(columns_of(self.standing, self.width), calls))
 
     def go(self, script, rounds):
         """Does a Script so many times, or undoes it if rounds is below 0."""

@@ -1,16 +1,14 @@
 """Seek: which arrangements of a short line calls lead to, and how few of them it takes."""
 
-from pupilpairs.calls import turned
 from pupilpairs.errors import NoArrangement
 from pupilpairs.kinds import is_index, is_integer
-from pupilpairs.lines import moves_of
+from pupilpairs.lines import order_behind
 from pupilpairs.scripts import Script
 
 
 def arranged(files, rows, calls):
     """The arrangement to which calls, done one behind another, lead from the first one."""
-    # Whoever stands at a place behind the calls is who stood at first where they lead, turned back, from there.
-    return tuple(moves_of(~Script(files, calls), rows))
+    return tuple(order_behind(Script(files, calls), rows))
 
 
 def seek(files, rows, calls, wished):
@@ -74,7 +72,7 @@ def is_arrangement(many, thing):
 
 def sources_of(files, rows, calls):
     """For each call, the list of the numbers of the places from which it leads to the places 0, 1, .. ."""
-    return [moves_of(Script(files, [turned(call)]), rows) for call in calls]
+    return [order_behind(Script(files, [call]), rows) for call in calls]
 
 
 def behind_call(arrangement, sources):

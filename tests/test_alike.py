@@ -9,7 +9,7 @@ from pupilpairs.lines import moves_of
 from pupilpairs.moves import moved
 from pupilpairs.scripts import Script
 from tests.helpers import (
-    FAR, OPEN, STRAIGHT, drawn_call, drawn_script, drawn_scripts, model_moves, open_scripts, raised,
+    FAR, OPEN, STRAIGHT, drawn_call, drawn_script, drawn_scripts, known_loops, model_moves, open_scripts, raised,
 )
 
 
@@ -183,6 +183,58 @@ class PartingToTest(unittest.TestCase):
         self.assertEqual(parting_to(Script(2, [("halve",)]), Script(2, [("pair",)]), 60), (3, (0, 1)))
         self.assertEqual(parting_to(Script(3, [("others",)]), Script(3, [("fill",)]), 60), (5, (1, 0)))
         self.assertEqual(parting_to(Script(3, [("others",)]), Script(3, [("up", 0, 1)]), 60)[0], 2)
+
+    def check(self, one, other, most):
+        """Asserts what is told of two scripts, both ways about, and returns it."""
+        expected = parted_by_rows(one, other, most)
+        for first, second in ((one, other), (other, one)):
+            self.assertEqual(parting_to(first, second, most), expected, (one.calls(), other.calls()))
+        return expected
+
+    def test_calls_put_in(self):
+        # What both scripts have may stand ahead of what one has more, behind it, or on both sides, twice over.
+        draw = random.Random(57)
+        told = []
+        for script in drawn_scripts(58, 20, STRAIGHT + OPEN * 2, many=8, size=8):
+            for at in range(len(script) + 1):
+                for calls in ([("halve",), ("pair",)], [("fill",)], script.calls()[at:at + 2], script.calls()[:at],
+                              [drawn_call(draw, script.files, STRAIGHT, 9)]):
+                    other = script
+                    for call in reversed(calls):
+                        other = other.with_call(at, call)
+                    told.append(self.check(script, other, 10))
+        self.assertGreater(told.count(None), 50)
+        self.assertGreater(len(set(told)), 8)
+
+    def test_calls_again_and_again(self):
+        for a, b in ((("up", 0, 1), ("halve",)), (("front", 0, 1), ("all", 1)), (("others",), ("about",))):
+            words = [[], [a], [b], [a, a], [a, b], [a, b, a], [a, a, a], [a, b, b, a], [a, b, a, b, a], [a, a, b, a, a]]
+            for one in words:
+                for other in words:
+                    self.check(Script(2, one), Script(2, other), 9)
+                    self.check(Script(3, one), Script(3, other), 7)
+
+    def test_scripts_that_part_late(self):
+        for rows in (5, 13, 31, 59):
+            one, other = parted_on_one_line(rows)
+            for calls in ([("halve",)], [("others",), ("up", 1, 2), ("pair",)]):
+                shared = Script(2, calls)
+                for first, second in ((shared * one, shared * other), (one * shared, other * shared),
+                                      (shared * one * shared, shared * other * shared)):
+                    told = self.check(first, second, rows)
+                    self.assertEqual(told[0], rows)
+                    self.check(first, second, rows - 1)
+
+    def test_time(self):
+        # About 7, 7 and 35; it was 110 and more when each call was made and followed place by place.
+        calls = [("wheel", 0, 1, 2), ("up", 2, -1), ("halve",), ("swap", 1, 2), ("all", 3), ("others",),
+                 ("wheel", 1, 2, -3), ("about",), ("front", 0, 2), ("pair",), ("up", 0, 1)]
+        more = [("halve",), ("pair",)]
+        one = Script(3, calls)
+        for other, most in ((Script(3, calls + more), 40), (Script(3, calls[:2] + more + calls[2:]), 40),
+                            (Script(3, more + calls[:-1] + [("up", 0, 2), ("up", 0, -1)]), 80)):
+            self.assertIsNone(parting_to(one, other, 60))
+            self.assertLess(known_loops(lambda: [parting_to(one, other, 60) for _ in range(10)]), most)
 
     def test_most(self):
         one, other = parted_on_one_line(7)

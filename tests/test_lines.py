@@ -316,7 +316,7 @@ class MovesOfTest(unittest.TestCase):
                             self.assertEqual(told[number], number_of(files, there), (call, rows))
 
     def test_time(self):
-        # About 5 each; it was 50 and more when each place was moved alone.
+        # About 3 at most; it was 50 and more when each place was moved alone.
         script = Script(3, [("wheel", 0, 1, 4), ("wheel", 1, 2, 3), ("up", 0, 2), ("wheel", 0, 2, -4), ("up", 1, 1),
                             ("front", 0, 1)])
         line = Line(3, 400)
