@@ -111,7 +111,6 @@ class Parade:
 
     def met(self, pupil):
         """The ascending list of the others who ever stood in one row with a pupil, undone calls left out."""
-        self.check_pupil(pupil)
         seen = {}
         for state in self.states:
             for other in state.row_of(pupil):

@@ -65,9 +65,9 @@ def first_of(many):
 
 def is_arrangement(many, thing):
     """Whether a thing is an arrangement of a line of so many pupils."""
-    if not isinstance(thing, tuple) or len(thing) != many:
+    if not isinstance(thing, tuple) or not all([is_index(pupil, many) for pupil in thing]):
         return False
-    return all([is_index(pupil, many) for pupil in thing]) and sorted(thing) == list(range(many))
+    return sorted(thing) == list(range(many))
 
 
 def sources_of(files, rows, calls):

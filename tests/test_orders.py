@@ -94,7 +94,8 @@ class IsPaperTest(unittest.TestCase):
                           (-order, primes), (0, primes), (order, primes + [101]), (order, [1] + primes),
                           (order, primes + [True]), (order, primes + [order]), (str(order), primes), (order,), order,
                           (order, None), (order, {}), (order, primes, []), [order, primes], (order, tuple(primes)),
-                          (primes, order), (order, [str(prime) for prime in primes])]:
+                          (primes, order), (order, [str(prime) for prime in primes]), (complex(order), primes),
+                          (order, [complex(prime) for prime in primes] + [7][len(primes):])]:
                 if thing == (1, []) == (order, primes):
                     continue
                 self.assertIs(is_order_paper(base, modulus, thing), False, (base, modulus, thing))

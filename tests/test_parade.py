@@ -1,5 +1,6 @@
 """Lines of pupils led call by call [92]."""
 
+import copy
 import random
 import unittest
 
@@ -70,6 +71,7 @@ class ParadeCase(unittest.TestCase):
         self.assertEqual(parade.done(), model.calls)
         self.assertEqual(parade.line(), model.lines(order))
         self.assertEqual(parade.away(), sorted(model.gone))
+        self.assertIs(parade.is_home(), order == sorted(order))
         for pupil in pupils:
             self.assertEqual(parade.place_of(pupil), divmod(order.index(pupil), files))
             beside = model.row_of(order, pupil)
@@ -78,10 +80,10 @@ class ParadeCase(unittest.TestCase):
             self.assertEqual(parade.met(pupil), sorted(seen))
 
     def told(self, parade):
-        """All that a parade tells."""
+        """A copy of all that a parade tells."""
         pupils = range(parade.files * parade.rows)
-        return (parade.files, parade.rows, len(parade), parade.done(), parade.line(), parade.away(),
-                [(parade.place_of(pupil), parade.mates(pupil), parade.met(pupil)) for pupil in pupils])
+        return copy.deepcopy((parade.files, parade.rows, len(parade), parade.done(), parade.line(), parade.away(),
+                              [(parade.place_of(pupil), parade.mates(pupil), parade.met(pupil)) for pupil in pupils]))
 
 
 class MakingTest(ParadeCase):
@@ -374,6 +376,9 @@ class ErrorsTest(ParadeCase):
             for rows in (parade.line(), parade.trial([])):
                 rows[0].clear()
             self.check_unchanged(parade, told)
+            kept = parade.done()
+            parade.do(("all", 1))
+            self.assertEqual(kept, told[3])
 
 
 if __name__ == "__main__":
